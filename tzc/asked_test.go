@@ -108,10 +108,13 @@ func TestNoSuchName(t *testing.T) {
 			holdLocal(t, list, n, 0, nil, 0, api.ErrNone)
 		}
 	}
-	holdLookup(t, l[:1], "City", 0, api.Clock{}, api.ErrNone)
-	holdLookup(t, l[1:], "Town", 0, api.Clock{}, api.ErrNone)
-	holdLookup(t, l[1:], "City", 0, api.Clock{Offset: 3600, Name: "CET"}, api.OK)
-	holdLocal(t, l[1:], "City", 3600, []int{0}, 0, api.OK)
+	city, town := l[:1], l[1:] // in the order of the names
+	holdLookup(t, town, "City", 0, api.Clock{}, api.ErrNone)
+	holdLookup(t, city, "Town", 0, api.Clock{}, api.ErrNone)
+	holdLookup(t, city, "City", 0, api.Clock{Offset: 3600, Name: "CET"}, api.OK)
+	holdLocal(t, city, "City", 3600, []int{0}, 0, api.OK)
+	holdLookup(t, town, "Town", 0, api.Clock{Offset: 3600, Name: "CET"}, api.OK)
+	holdLocal(t, town, "Town", 3600, []int{0}, 0, api.OK)
 }
 
 // P6.2, P6.3: lists that Compile did not make: the first one of a name is asked, and of it the one program.

@@ -202,14 +202,14 @@ func TestTown(t *testing.T) {
 	}
 }
 
-// P6.1: all names, those of zones ahead of those of links, wherever they stand; each of its own.
+// P6.1: all names, those of zones and of links, wherever they stand; each of its own.
 func TestNames(t *testing.T) {
 	for _, c := range []struct{ s, want string }{
 		{"", ""},
 		{"# nothing\n\n", ""},
 		{"Rule A 1900 max - Jan 1 0 0 -", ""},
-		{"Zone B 0 - X\nZone A 0 - X", "B A"},
-		{"Link L2 L3\nLink Z L1\nZone Z 1 - Z\nLink L1 L2\nZone A 2 - A\nLink A b/C_1+-", "Z A L3 L1 L2 b/C_1+-"},
+		{"Zone B 0 - X\nZone A 0 - X", "A B"},
+		{"Link L2 L3\nLink Z L1\nZone Z 1 - Z\nLink L1 L2\nZone A 2 - A\nLink A b/C_1+-", "A L1 L2 L3 Z b/C_1+-"},
 	} {
 		if l := compiled(t, c.s, allWays); namesOf(l) != c.want {
 			t.Errorf("%s: %s", c.s, namesOf(l))
@@ -301,7 +301,7 @@ func (d *die) names(l ...string) []string {
 	return l[:d.below(len(l)+1)]
 }
 
-// plainRefused: the line and the error that a source must be refused with, step by step as P6.1 says it; the names of one that must not be.
+// plainRefused: the line and the error that a source must be refused with, step by step as P6.1 says it; the names of one that must not be, in their order.
 func plainRefused(s string, ways int) ([]string, int, api.Errno) {
 	if !slices.Contains([]int{0, 1, 2, 3, 4, 5, 6, 7}, ways) {
 		return nil, 0, api.ErrRange
@@ -326,7 +326,7 @@ func plainRefused(s string, ways int) ([]string, int, api.Errno) {
 			return nil, 0, api.ErrSize
 		}
 	}
-	return names, 0, api.OK
+	return inOrder(names), 0, api.OK
 }
 
 // P6.1, P6.2, P6.3: drawn sources, in all ways, held against the plainest reading of the chapters.

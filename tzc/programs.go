@@ -1,6 +1,7 @@
 package tzc
 
 import (
+	"slices"
 	"strings"
 
 	"sundial/api"
@@ -12,7 +13,7 @@ import (
 // grower of a tree of spans: forward or inverse.
 type grower func([]api.Span) (api.Forest, api.Errno)
 
-// names of a source: those of zones, then those of links.
+// names of a source, of zones and of links together, in their own order: where they stand in the source does not count.
 func names(s api.Source) []string {
 	var l []string
 	for _, z := range s.Zones {
@@ -21,6 +22,7 @@ func names(s api.Source) []string {
 	for _, x := range s.Links {
 		l = append(l, x.Name)
 	}
+	slices.Sort(l)
 	return l
 }
 
